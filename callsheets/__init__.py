@@ -1,0 +1,1 @@
+"""Callsheets: a shooting that keeps its rules in every course."""
