@@ -1,0 +1,68 @@
+"""Rules of ../shared/LANGUAGE.md that a look at the text of the package can tell."""
+
+import ast
+import builtins
+import re
+import unittest
+from pathlib import Path
+
+PACKAGE = Path(__file__).resolve().parent.parent / "callsheets"
+FILES = sorted(path for path in PACKAGE.rglob("*") if path.is_file() and path.parent.name != "__pycache__")
+LIBRARY = ("heapq", "math", "itertools", "collections", "__future__")
+BUILTINS = set(
+    "len range enumerate zip min max sum abs sorted reversed int str bool list tuple dict set isinstance ord repr "
+    "any all divmod object property staticmethod classmethod super iter next map getattr hasattr setattr type "
+    "Exception ValueError TypeError KeyError IndexError LookupError ZeroDivisionError ArithmeticError OverflowError "
+    "RuntimeError NotImplementedError AttributeError StopIteration NotImplemented".split()
+)
+
+
+def trees():
+    return [(path.name, ast.parse(path.read_text())) for path in FILES]
+
+
+class LanguageTest(unittest.TestCase):
+    def test_files(self):
+        for path in FILES:
+            self.assertTrue(re.fullmatch("[a-z0-9_]+[.]py", path.name), path)
+
+    def test_lines_and_characters(self):
+        for path in FILES:
+            lines = path.read_text().split("\n")
+            self.assertLessEqual(len(lines) - 1, 399, path)
+            for line in lines:
+                self.assertLessEqual(len(line), 120, (path, line))
+                self.assertTrue(re.fullmatch("[ -~]*", line), (path, line))
+
+    def test_length_of_functions(self):
+        for name, tree in trees():
+            for node in ast.walk(tree):
+                if isinstance(node, ast.FunctionDef):
+                    self.assertLessEqual(node.end_lineno - node.lineno + 1, 40, (name, node.name))
+
+    def test_imports(self):
+        for name, tree in trees():
+            for node in ast.walk(tree):
+                self.assertNotIsInstance(node, ast.Import, name)
+                if isinstance(node, ast.ImportFrom):
+                    self.assertEqual(node.level, 0, name)
+                    self.assertTrue(node.module in LIBRARY or node.module.startswith("callsheets."), (name, node.module))
+
+    def test_builtins(self):
+        for name, tree in trees():
+            for node in ast.walk(tree):
+                if isinstance(node, ast.Name) and hasattr(builtins, node.id):
+                    self.assertIn(node.id, BUILTINS, name)
+                    self.assertIsInstance(node.ctx, ast.Load, (name, node.id))
+
+    def test_numbers_and_strings(self):
+        for name, tree in trees():
+            for node in ast.walk(tree):
+                self.assertNotIsInstance(node, ast.Div, name)
+                if isinstance(node, ast.Constant):
+                    self.assertNotIsInstance(node.value, (float, complex), name)
+                    self.assertNotIn("%", str(node.value), name)
+
+
+if __name__ == "__main__":
+    unittest.main()
