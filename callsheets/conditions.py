@@ -28,6 +28,20 @@ def compare(left, sign, right):
     return left != right
 
 
+def is_true(tree, is_true_atom):
+    """Return whether a condition is true, for a function that tells it of an atom."""
+    word = tree[0]
+    if word == "not":
+        return not is_true(tree[1], is_true_atom)
+    if word == "and":
+        return is_true(tree[1], is_true_atom) and is_true(tree[2], is_true_atom)
+    if word == "or":
+        return is_true(tree[1], is_true_atom) or is_true(tree[2], is_true_atom)
+    if word == "then":
+        return not is_true(tree[1], is_true_atom) or is_true(tree[2], is_true_atom)
+    return is_true_atom(tree)
+
+
 def is_joining_word(word):
     """Return whether a word is a token of its own, and no part of an atom."""
     return word in JOINTS or word in OTHER_WORDS

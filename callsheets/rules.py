@@ -1,8 +1,12 @@
 """Rules over the figures of an actor's day (points 401 and 404)."""
 
-from callsheets.conditions import compare
+from callsheets.conditions import compare, is_true
 
 FIGURES = ("call", "wrap", "span", "work", "rest", "row", "dark", "stretch", "scenes")
+# The places of some of them among the nine.
+WRAP = 1
+SPAN = 2
+ROW = 5
 # Who a rule is for, if not for the actor with this number.
 ALL = -1
 MINORS = -2
@@ -10,19 +14,12 @@ MINORS = -2
 
 def holds(condition, figures):
     """Return whether a condition is true for nine figures."""
-    word = condition[0]
-    if word == "is":
-        _, figure, sign, number = condition
-        return compare(figures[FIGURES.index(figure)], sign, number)
-    if word == "not":
-        return not holds(condition[1], figures)
-    first = holds(condition[1], figures)
-    second = holds(condition[2], figures)
-    if word == "and":
-        return first and second
-    if word == "or":
-        return first or second
-    return not first or second
+    return is_true(condition, lambda atom: _is_true_atom(atom, figures))
+
+
+def _is_true_atom(atom, figures):
+    _, figure, sign, number = atom
+    return compare(figures[FIGURES.index(figure)], sign, number)
 
 
 def broken(film, rules, actor, figures):
