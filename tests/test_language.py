@@ -55,6 +55,30 @@ class LanguageTest(unittest.TestCase):
                     self.assertIn(node.id, BUILTINS, name)
                     self.assertIsInstance(node.ctx, ast.Load, (name, node.id))
 
+    def test_names_of_imports_and_classes(self):
+        for name, tree in trees():
+            taken = [alias.name for node in tree.body if isinstance(node, ast.ImportFrom) for alias in node.names]
+            taken += [node.name for node in tree.body if isinstance(node, (ast.ClassDef, ast.FunctionDef))]
+            self.assertEqual(len(taken), len(set(taken)), name)
+            for node in ast.walk(tree):
+                if isinstance(node, ast.arg):
+                    self.assertNotIn(node.arg, taken, name)
+                if isinstance(node, ast.Name) and isinstance(node.ctx, ast.Store):
+                    self.assertNotIn(node.id, taken, name)
+
+    def test_imported_names_are_defined_there_and_used(self):
+        defined = {}
+        for name, tree in trees():
+            defined[name] = [node.name for node in tree.body if isinstance(node, (ast.ClassDef, ast.FunctionDef))]
+            defined[name] += [node.targets[0].id for node in tree.body if isinstance(node, ast.Assign)]
+        for name, tree in trees():
+            used = [node.id for node in ast.walk(tree) if isinstance(node, ast.Name)]
+            for node in tree.body:
+                if isinstance(node, ast.ImportFrom) and node.module.startswith("callsheets."):
+                    for alias in node.names:
+                        self.assertIn(alias.name, defined[node.module.split(".")[1] + ".py"], name)
+                        self.assertIn(alias.name, used, name)
+
     def test_numbers_and_strings(self):
         for name, tree in trees():
             for node in ast.walk(tree):

@@ -1,0 +1,45 @@
+"""All steps from a stand on, for some of the sheets at each stand."""
+
+from callsheets.errors import LargeError
+from callsheets.stands import is_through, natures, step
+
+
+def row_of(case, stand, number):
+    """Return the row of a sheet: each triple that nature may choose, with what the step returns."""
+    return [(nature, step(case, stand, number, nature)) for nature in natures(case, stand)]
+
+
+def stands_behind(rows):
+    """Return the list of the stands to which the steps of rows lead, in order."""
+    return [told[1] for row in rows for _, told in row if told[0] == "stand"]
+
+
+def walk(case, start, numbers_at, most):
+    """Return a dict of all stands that are reached from one, each with a list of rows.
+
+    The function that is passed returns, for a stand that is not through, the
+    list of the numbers of sheets for it; there is a row for each of them. A
+    stand that is through has no rows. LargeError if there are more than the
+    most steps.
+
+    The stands stand in the order of the triples that lead to them: those of
+    earlier days first, and on one day those to which the first triples lead,
+    in the order of point 602.
+    """
+    told = {}
+    waiting = [start]
+    count = 0
+    while waiting:
+        reached = {}
+        for stand in waiting:
+            numbers = [] if is_through(case, stand) else numbers_at(stand)
+            rows = [row_of(case, stand, number) for number in numbers]
+            count = count + sum([len(row) for row in rows])
+            if count > most:
+                raise LargeError("large")
+            told[stand] = rows
+            for after in stands_behind(rows):
+                reached[after] = True
+        # Each step leads to the next day, so none of these was told already.
+        waiting = list(reached)
+    return told
