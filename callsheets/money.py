@@ -4,7 +4,7 @@ from callsheets.days import NOT_WORKED, figures_of
 from callsheets.errors import MoneyError
 from callsheets.rules import SPAN
 
-STEP_LIMIT = 4
+FEE_STEPS = 4
 LONGEST_SPAN = 3000
 MOST_MONEY = 99999
 HALF_HOUR = 30
@@ -24,7 +24,7 @@ def check_fees(film, fees):
 
 
 def _are_steps(spans):
-    if len(spans) > STEP_LIMIT or not all([0 <= span <= LONGEST_SPAN for span in spans]):
+    if len(spans) > FEE_STEPS or not all([0 <= span <= LONGEST_SPAN for span in spans]):
         return False
     return spans == sorted(set(spans))
 

@@ -22,9 +22,9 @@ def walk(case, start, numbers_at, most):
     stand that is through has no rows. LargeError if there are more than the
     most steps.
 
-    The stands stand in the order of the triples that lead to them: those of
-    earlier days first, and on one day those to which the first triples lead,
-    in the order of point 602.
+    The stands of earlier days come first. If there is at most one sheet at
+    each stand, those of one day are in the order of the first triples that
+    lead to them, which are compared one after the other as in point 602.
     """
     told = {}
     waiting = [start]
