@@ -13,7 +13,7 @@ class Pages:
     def __init__(self, many):
         # How many days the whole text has: a window may stand ahead of its days.
         self.many = many
-        self.days = []
+        self.lights = []
         self.away = []
         self.closed = []
 
@@ -28,9 +28,9 @@ def parse_calendar(film, text):
         fault = _take_line(film, pages, words)
         if fault is not None:
             raise CalendarError(fault, line)
-    if not pages.days:
+    if not pages.lights:
         raise CalendarError("none", len(lines))
-    return (tuple(pages.days), tuple(sorted(set(pages.away))), tuple(sorted(set(pages.closed))))
+    return (tuple(pages.lights), tuple(sorted(set(pages.away))), tuple(sorted(set(pages.closed))))
 
 
 # The functions that take a line return the code of its error, or None if they took it.
@@ -49,12 +49,17 @@ def _take_line(film, pages, words):
 
 
 def _take_day(pages, light, dark):
-    if len(pages.days) >= DAY_LIMIT:
+    if len(pages.lights) >= DAY_LIMIT:
         return "many"
-    if not light < dark <= MINUTES_OF_DAY:
+    if not are_lights(light, dark):
         return "light"
-    pages.days.append((light, dark))
+    pages.lights.append((light, dark))
     return None
+
+
+def are_lights(light, dark):
+    """Return whether it may be light on a day from one minute to another one."""
+    return 0 <= light < dark <= MINUTES_OF_DAY
 
 
 def _take_window(pages, windows, rows, words):

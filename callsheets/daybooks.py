@@ -5,14 +5,20 @@ from callsheets.days import NOT_WORKED
 from callsheets.dealings import STEP_LIMIT
 from callsheets.errors import CaseError
 from callsheets.stands import first_stand, is_through
-from callsheets.walks import walk
+from callsheets.walks import Rows, walk
 
 
 def choice(book, stand):
     """Return the number of the sheet that a day book tells at a stand, or None."""
-    for day, test, number in book:
+    line = telling_line(book, stand)
+    return None if line is None else book[line][2]
+
+
+def telling_line(book, stand):
+    """Return the number of the line that tells the sheet at a stand, or None."""
+    for line, (day, test, _) in enumerate(book):
         if day == stand[0] and (test is None or is_true(test, lambda atom: _is_true_atom(atom, stand))):
-            return number
+            return line
     return None
 
 
@@ -26,13 +32,13 @@ def _is_true_atom(atom, stand):
     return compare(used[place], sign, number)
 
 
-def book_walk(case, book, start):
+def book_walk(rows, book, start):
     """Return the rows of all stands that are reached from one by the sheets of a day book.
 
     A stand has one row, or none if it is through or the day book tells no
     sheet at it. LargeError if there are too many steps.
     """
-    return walk(case, start, lambda stand: _numbers_at(book, stand), STEP_LIMIT)
+    return walk(rows, start, lambda stand: _numbers_at(book, stand), STEP_LIMIT)
 
 
 def _numbers_at(book, stand):
@@ -42,7 +48,13 @@ def _numbers_at(book, stand):
 
 def explore(case, book):
     """Return ("closes", stands) for a day book, or ("breaks", natures, what)."""
-    rows_at = book_walk(case, book, first_stand(case))
+    return explored(Rows(case), book)
+
+
+def explored(rows, book):
+    """Return what explore does, by the rows of the case."""
+    case = rows.case
+    rows_at = book_walk(rows, book, first_stand(case))
     found = _breaks_of(case, rows_at)
     if not found:
         return ("closes", tuple(sorted(rows_at)))
@@ -55,7 +67,7 @@ def explore(case, book):
 
 def _breaks_of(case, rows_at):
     """Return the list of all pairs of the first triples that lead to a break, and what breaks."""
-    ways = _ways_to(case, rows_at)
+    ways = ways_to(case, rows_at)
     found = []
     for stand, rows in rows_at.items():
         if not rows and not is_through(case, stand):
@@ -67,8 +79,8 @@ def _breaks_of(case, rows_at):
     return found
 
 
-def _ways_to(case, rows_at):
-    """Return the dict of the first triples by which the stands are reached."""
+def ways_to(case, rows_at):
+    """Return the dict of the first triples by which the stands of a walk are reached."""
     ways = {first_stand(case): ()}
     for stand, rows in rows_at.items():
         for row in rows:
@@ -78,15 +90,32 @@ def _ways_to(case, rows_at):
     return ways
 
 
+def keeps_all(case, rows_at):
+    """Return whether in the walk of a day book nothing breaks, and no stand is without a sheet."""
+    for stand, rows in rows_at.items():
+        if not rows and not is_through(case, stand):
+            return False
+        for row in rows:
+            for _, told in row:
+                if told[0] == "break":
+                    return False
+    return True
+
+
+def closed_walk(case, book):
+    """Return the walk of a day book from the first stand on, or None if it does not close."""
+    rows_at = book_walk(Rows(case), book, first_stand(case))
+    return rows_at if keeps_all(case, rows_at) else None
+
+
 def reserve(case, book):
     """Return the greatest cost of the courses of a day book that closes."""
-    first = first_stand(case)
-    rows_at = book_walk(case, book, first)
-    if _breaks_of(case, rows_at):
+    rows_at = closed_walk(case, book)
+    if rows_at is None:
         raise CaseError("breaks")
     greatest = {}
     # The stands behind one are told behind it.
     for stand in reversed(list(rows_at)):
         costs = [told[2] + greatest[told[1]] for row in rows_at[stand] for _, told in row]
         greatest[stand] = max(costs, default=0)
-    return greatest[first]
+    return greatest[first_stand(case)]

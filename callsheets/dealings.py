@@ -2,7 +2,7 @@
 
 from callsheets.errors import CaseError
 from callsheets.stands import first_stand, is_through
-from callsheets.walks import stands_behind, walk
+from callsheets.walks import Rows, stands_behind, walk
 
 # More steps are not looked through.
 STEP_LIMIT = 5000
@@ -15,7 +15,7 @@ def need(case, stand):
 
 def _full_walk(case, start):
     """Return the rows of all stands that are reached from one by any sheets."""
-    return walk(case, start, lambda stand: _all_numbers(case, stand), STEP_LIMIT)
+    return walk(Rows(case), start, lambda stand: _all_numbers(case, stand), STEP_LIMIT)
 
 
 def _all_numbers(case, stand):

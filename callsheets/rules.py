@@ -4,6 +4,7 @@ from callsheets.conditions import compare, is_true
 
 FIGURES = ("call", "wrap", "span", "work", "rest", "row", "dark", "stretch", "scenes")
 # The places of some of them among the nine.
+CALL = 0
 WRAP = 1
 SPAN = 2
 ROW = 5

@@ -14,13 +14,28 @@ def stands_behind(rows):
     return [told[1] for row in rows for _, told in row if told[0] == "stand"]
 
 
-def walk(case, start, numbers_at, most):
+class Rows:
+    """The rows of the sheets of a case, each of them worked out once."""
+
+    def __init__(self, case):
+        self.case = case
+        self._kept = {}
+
+    def row(self, stand, number):
+        """Return the row of a sheet at a stand."""
+        key = (stand, number)
+        if key not in self._kept:
+            self._kept[key] = row_of(self.case, stand, number)
+        return self._kept[key]
+
+
+def walk(rows, start, numbers_at, most):
     """Return a dict of all stands that are reached from one, each with a list of rows.
 
-    The function that is passed returns, for a stand that is not through, the
-    list of the numbers of sheets for it; there is a row for each of them. A
-    stand that is through has no rows. LargeError if there are more than the
-    most steps.
+    The rows are those of a case. The function that is passed returns, for a
+    stand that is not through, the list of the numbers of sheets for it; there
+    is a row for each of them. A stand that is through has no rows. LargeError
+    if there are more than the most steps.
 
     The stands of earlier days come first. If there is at most one sheet at
     each stand, those of one day are in the order of the first triples that
@@ -32,13 +47,12 @@ def walk(case, start, numbers_at, most):
     while waiting:
         reached = {}
         for stand in waiting:
-            numbers = [] if is_through(case, stand) else numbers_at(stand)
-            rows = [row_of(case, stand, number) for number in numbers]
-            count = count + sum([len(row) for row in rows])
+            numbers = [] if is_through(rows.case, stand) else numbers_at(stand)
+            told[stand] = [rows.row(stand, number) for number in numbers]
+            count = count + sum([len(row) for row in told[stand]])
             if count > most:
                 raise LargeError("large")
-            told[stand] = rows
-            for after in stands_behind(rows):
+            for after in stands_behind(told[stand]):
                 reached[after] = True
         # Each step leads to the next day, so none of these was told already.
         waiting = list(reached)

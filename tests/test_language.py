@@ -58,8 +58,10 @@ class LanguageTest(unittest.TestCase):
     def test_names_of_imports_and_classes(self):
         for name, tree in trees():
             taken = [alias.name for node in tree.body if isinstance(node, ast.ImportFrom) for alias in node.names]
-            taken += [node.name for node in tree.body if isinstance(node, (ast.ClassDef, ast.FunctionDef))]
-            self.assertEqual(len(taken), len(set(taken)), name)
+            taken += [node.name for node in tree.body if isinstance(node, ast.ClassDef)]
+            bound = taken + [node.name for node in tree.body if isinstance(node, ast.FunctionDef)]
+            bound += [node.targets[0].id for node in tree.body if isinstance(node, ast.Assign)]
+            self.assertEqual(len(bound), len(set(bound)), name)
             for node in ast.walk(tree):
                 if isinstance(node, ast.arg):
                     self.assertNotIn(node.arg, taken, name)
