@@ -86,10 +86,7 @@ def _joined(triples):
 
 def board(case, book):
     """Return the board of a day book, with the words of all actors at all stands."""
-    return _board_of(case, _course_map(case, book))
-
-
-def _board_of(case, courses):
+    courses = _course_map(case, book)
     notices = [_notices_of(case, courses, actor) for actor in range(len(case[0][1]))]
     told = []
     for stand in sorted(courses):

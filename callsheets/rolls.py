@@ -70,9 +70,10 @@ def _have_room(rooms, takes):
     # roll and of how much of it is used, up to which the set can be put on the
     # rolls, if they are filled in order. A greater pair never leaves more room,
     # so that nothing else has to be known of a set.
-    ends = [None for _ in range(1 << len(takes))]
+    sets = 1 << len(takes)
+    ends = [None for _ in range(sets)]
     ends[0] = (0, 0)
-    for chosen in range(len(ends)):
+    for chosen in range(sets):
         if ends[chosen] is not None:
             for place, take in enumerate(takes):
                 more = chosen | (1 << place)

@@ -14,6 +14,16 @@ RULES = (
 )
 TESTS = ("shot s0", "not shot s1", "worked a", "rains > 0", "ills = 0", "lates < 1", "shot s0 and shot s1 or worked a")
 
+# A film with one scene for each of two actors, the second one not in rain.
+PAIR_TEXT = """\
+ready 60
+place p inside
+actor ann
+actor ben
+scene a p any 60 : ann
+scene b p any 60 dry : ben
+"""
+
 
 def small_case(number):
     """Return the case with a number, always the same one, and a day book for it."""

@@ -5,7 +5,7 @@ import random
 import unittest
 
 from plain_courses import closing_cases, plain_notice
-from small_cases import small_case
+from small_cases import PAIR_TEXT, small_case
 
 from callsheets.booktext import parse_book
 from callsheets.calendars import parse_calendar
@@ -15,14 +15,7 @@ from callsheets.films import parse_film
 from callsheets.notices import board, takes_board
 from callsheets.stands import is_through, natures, step
 
-FILM = parse_film("""\
-ready 60
-place p inside
-actor ann
-actor ben
-scene a p any 60 : ann
-scene b p any 60 dry : ben
-""")
+FILM = parse_film(PAIR_TEXT)
 BOTH = (600, (0, 1), (0,))
 CASE = (FILM, parse_calendar(FILM, "day 400 1000\n" * 3), (), ((BOTH,),) * 3, (1, 0, 0, 20), ((0, ()),) * 2)
 BOOK = parse_book(CASE, "day 0 : 0\nday 1 : 0\nday 2 : 0")

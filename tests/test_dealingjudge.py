@@ -3,7 +3,7 @@
 import itertools
 import unittest
 
-from small_cases import small_case
+from small_cases import PAIR_TEXT, small_case
 
 from callsheets.calendars import parse_calendar
 from callsheets.dealingjudge import takes_answers, takes_dealing
@@ -11,15 +11,7 @@ from callsheets.dealings import best, need, too_little
 from callsheets.films import parse_film
 from callsheets.stands import first_stand, is_through, natures, step
 
-FILM = parse_film("""\
-ready 60
-place p inside
-actor ann
-actor ben
-scene a p any 60 : ann
-scene b p any 60 dry : ben
-order a b
-""")
+FILM = parse_film(PAIR_TEXT + "order a b")
 NOTHING, ONE, BOTH = (600, (), ()), (600, (0,), (0,)), (600, (0, 1), (0,))
 FEES = ((100, ()), (10, ((60, 1),)))
 CALENDAR = parse_calendar(FILM, "day 400 1000\n" * 3)
@@ -334,6 +326,8 @@ class AnswersTest(unittest.TestCase):
         book = too_little(CASE, 111)
         self.assertIs(takes_answers(CASE, 111, (*book, (rained, 12, (DRY,)))), True)
         self.assertIs(takes_answers(CASE, 111, (*book, (rained, 13, (DRY,)))), False)
+        self.assertIs(takes_answers(CASE, 111, (*book, (rained, 0, (DRY,)))), True)
+        self.assertIs(takes_answers(CASE, 111, (*book, (rained, -1, (DRY,)))), False)
         self.assertIs(takes_answers(CASE, 111, (*book, (rained, 12, (RAIN,)))), False)
 
     def test_arguments_stay_as_they_were(self):

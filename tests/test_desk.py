@@ -3,6 +3,7 @@
 import random
 import unittest
 
+from small_cases import PAIR_TEXT as FILM
 from small_cases import small_case
 
 from callsheets.booktext import parse_book, print_book
@@ -18,14 +19,6 @@ from callsheets.menus import print_fees, print_menu
 from callsheets.ruletext import print_rules
 from callsheets.stands import natures
 
-FILM = """\
-ready 60
-place p inside
-actor ann
-actor ben
-scene a p any 60 : ann
-scene b p any 60 dry : ben
-"""
 CALENDAR = "day 400 1000\n" * 3
 RULES = "rule r all : work < 600\n"
 MENU = """\

@@ -75,6 +75,15 @@ class HeldTest(unittest.TestCase):
         self.assertEqual([held(case, book, actor) for actor in range(4)],
                          [plain_held(case, book, actor) for actor in range(4)])
 
+    def test_held_at_each_stand_of_a_course(self):
+        # However the first day is, rain may still put off the second one.
+        menu = (((600, (0,), (0,)),),) + (((600, (1, 2), (2,)),),) * 3
+        case = (*CASE[:3], menu, (2, 0, 0, 20), CASE[5])
+        self.assertEqual([held(case, BOOK, actor) for actor in range(4)], [(0, 0), (5, 8), (0, 0), (0, 0)])
+        self.assertEqual([plain_held(case, BOOK, actor) for actor in range(4)], [(0, 0), (5, 8), (0, 0), (0, 0)])
+        self.assertEqual([latest_word(case, BOOK, actor) for actor in range(4)], [-1, 2, -1, -1])
+        self.assertEqual([warning(case, BOOK, actor) for actor in range(4)], [0, -1, 1, None])
+
     def test_small_cases_against_all_courses(self):
         told = {held: [], warning: [], latest_word: []}
         for case, book in closing_cases(range(500)):

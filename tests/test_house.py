@@ -4,7 +4,7 @@ import random
 import unittest
 
 from plain_courses import closing_cases, courses_from
-from small_cases import small_case
+from small_cases import PAIR_TEXT, small_case
 
 from callsheets.booktext import parse_book
 from callsheets.calendars import parse_calendar
@@ -16,14 +16,7 @@ from callsheets.films import parse_film
 from callsheets.house import House
 from callsheets.stands import first_stand, is_through, natures, step
 
-FILM = parse_film("""\
-ready 60
-place p inside
-actor ann
-actor ben
-scene a p any 60 : ann
-scene b p any 60 dry : ben
-""")
+FILM = parse_film(PAIR_TEXT)
 BOTH, ONE, NOTHING = (600, (0, 1), (0,)), (600, (0,), (0,)), (600, (), ())
 CASE = (FILM, parse_calendar(FILM, "day 400 1000\n" * 3), (), ((BOTH, ONE), (NOTHING, BOTH), (BOTH,)), (1, 1, 1, 20),
         ((100, ()), (10, ())))
@@ -127,9 +120,10 @@ class HouseTest(FaultTest):
     def test_back(self):
         house = House(CASE, BOOK)
         house.shoot(RAIN)
-        house.put(0)
+        house.put(1)
         self.assertIs(house.back(), True)
         self.assertEqual(house.state(), ("open", FIRST, 0))
+        # What was put behind the day is gone with it.
         self.assertEqual(house.tonight(), 0)
         house.put(1)
         house.shoot(DRY)

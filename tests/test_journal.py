@@ -3,7 +3,7 @@
 import random
 import unittest
 
-from small_cases import small_case
+from small_cases import PAIR_TEXT, small_case
 
 from callsheets.booktext import parse_book
 from callsheets.calendars import parse_calendar
@@ -13,14 +13,7 @@ from callsheets.house import House
 from callsheets.journal import JournalError, check_number, journal, replay
 from callsheets.stands import natures
 
-FILM = parse_film("""\
-ready 60
-place p inside
-actor ann
-actor ben
-scene a p any 60 : ann
-scene b p any 60 dry : ben
-""")
+FILM = parse_film(PAIR_TEXT)
 BOTH, ONE, NOTHING = (600, (0, 1), (0,)), (600, (0,), (0,)), (600, (), ())
 CASE = (FILM, parse_calendar(FILM, "day 400 1000\n" * 3), (), ((BOTH, ONE), (NOTHING, BOTH), (BOTH,)), (1, 1, 1, 20),
         ((100, ()), (10, ())))

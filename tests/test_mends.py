@@ -191,6 +191,15 @@ class LeastMendTest(unittest.TestCase):
         # As there is rain on one day only, two days with all scenes are enough.
         self.assertEqual(least_mend(CASE, book, 2), (("sheet", 0, 1), ("sheet", 1, 0)))
 
+    def test_the_second_change_comes_first_in_the_tuple(self):
+        # With rain the first day breaks; only with another sheet for it the second day matters.
+        wet = (600, (0, 1), (1,))
+        case = (*CASE[:3], ((wet, BOTH), (BOTH,), (BOTH,)), *CASE[4:])
+        book = parse_book(case, "day 0 : 0")
+        self.assertEqual(explore(case, book), ("breaks", (("rain", -1, 0),), ("wet", 1)))
+        self.assertIsNone(least_mend(case, book, 1))
+        self.assertEqual(least_mend(case, book, 2), (("more", 1, 0), ("sheet", 0, 1)))
+
     def test_none(self):
         self.assertIsNone(least_mend(CASE, (), 0))
         self.assertIsNone(least_mend(CASE, (), 1))

@@ -12,11 +12,14 @@ from callsheets.ruletext import parse_rules
 FILM = parse_film("""\
 place hut inside
 place bay outside
+place inn inside
 actor ann
 actor ben
 actor cleo
+actor dora
 scene a hut any 60 : ann
 scene b bay any 60 dry : ben
+scene c inn day 30 :
 """)
 SHEET = (600, (0, 1), (0,))
 MENU = ((SHEET,), (SHEET, SHEET), (SHEET,) * 5, (SHEET,) * 6, (SHEET,), (SHEET,))
@@ -31,7 +34,7 @@ closed bay 4 5
 closed hut 2 3
 """)
 RULES = parse_rules(FILM, "rule r all : work < 600")
-CASE = (FILM, CALENDAR, RULES, MENU, BOUNDS, ((5, ()),) * 3)
+CASE = (FILM, CALENDAR, RULES, MENU, BOUNDS, ((5, ()),) * 4)
 
 
 class NewsTest(unittest.TestCase):
@@ -70,6 +73,11 @@ class NewsTest(unittest.TestCase):
         # It is away on these days already, but by other windows.
         self.check_change(("away", 0, 1, 2), away=((0, 1, 2), (0, 1, 4), (0, 2, 2), (1, 0, 0), (1, 3, 5)))
 
+    def test_the_last_actor_and_place(self):
+        self.check_change(("away", 3, 5, 5), away=CALENDAR[1] + ((3, 5, 5),))
+        self.check_change(("closed", 2, 5, 5), closed=CALENDAR[2] + ((2, 5, 5),))
+        self.check_change(("sheet", 0, (0, (2,), ())), menu=((SHEET, (0, (2,), ())),) + MENU[1:])
+
     def test_closed(self):
         self.check_change(("closed", 0, 5, 5), closed=((0, 2, 3), (0, 5, 5), (1, 0, 5), (1, 4, 5)))
         self.check_change(("closed", 1, 0, 4), closed=((0, 2, 3), (1, 0, 4), (1, 0, 5), (1, 4, 5)))
@@ -105,10 +113,10 @@ class NewsTest(unittest.TestCase):
         self.assertEqual(with_news(with_news(case, ("back", 2, 1)), ("back", 2, 3)), CASE)
 
     def test_unknown(self):
-        for number in (-1, 3, 99):
+        for number in (-1, 4, 99):
             self.check_fault("unknown", "away", number, 0, 0)
             self.check_fault("unknown", "back", number, 2)
-        for number in (-1, 2, 99):
+        for number in (-1, 3, 99):
             self.check_fault("unknown", "closed", number, 0, 0)
             self.check_fault("unknown", "open", number, 2)
 
@@ -131,8 +139,8 @@ class NewsTest(unittest.TestCase):
     def test_many_and_the_codes_of_the_sheet(self):
         self.check_fault("many", "sheet", 3, (0, (), ()))
         for sheet, code in (
-            ((1441, (), ()), "call"), ((-1, (), ()), "call"), ((0, (-1,) * 13, ()), "long"), ((0, (), (2,)), "item"),
-            ((0, (-2,), ()), "item"), ((0, (1, 1), ()), "twice"), ((1441, (2, 2), ()), "call"), ((0, (2,), (0, 0)), "item"),
+            ((1441, (), ()), "call"), ((-1, (), ()), "call"), ((0, (-1,) * 13, ()), "long"), ((0, (), (3,)), "item"),
+            ((0, (-2,), ()), "item"), ((0, (1, 1), ()), "twice"), ((1441, (3, 3), ()), "call"), ((0, (3,), (0, 0)), "item"),
         ):
             self.check_fault(code, "sheet", 0, sheet, kind=SheetError)
 
@@ -148,9 +156,9 @@ class NewsTest(unittest.TestCase):
         self.check_fault("idle", "open", 0, 4)
 
     def test_the_first_code_of_two(self):
-        self.check_fault("unknown", "away", 3, 5, 4)
-        self.check_fault("unknown", "back", 3, 6)
-        self.check_fault("unknown", "open", 2, -1)
+        self.check_fault("unknown", "away", 4, 5, 4)
+        self.check_fault("unknown", "back", 4, 6)
+        self.check_fault("unknown", "open", 3, -1)
         self.check_fault("day", "light", 6, 5, 4)
         self.check_fault("day", "sheet", 6, (1441, (), ()))
         self.check_fault("many", "sheet", 3, (1441, (5,), ()))
