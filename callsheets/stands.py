@@ -58,6 +58,11 @@ def _used_with(stand, nature):
 def step(case, stand, number, nature):
     """Return ("stand", stand, cost) or ("break", what) for a sheet's number and a triple."""
     _check_step(case, stand, number, nature)
+    return right_step(case, stand, number, nature)
+
+
+def right_step(case, stand, number, nature):
+    """Return what step does, for a sheet and a triple that can be chosen at the stand."""
     film, calendar, rules, menu, _, fees = case
     day, shot, befores, _ = stand
     rows, _ = hours(film, menu[day][number], shot, nature)

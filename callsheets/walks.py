@@ -1,7 +1,7 @@
 """All steps from a stand on, for some of the sheets at each stand."""
 
 from callsheets.errors import LargeError
-from callsheets.stands import is_through, natures, step
+from callsheets.stands import is_through, natures, right_step, step
 
 
 def row_of(case, stand, number):
@@ -20,13 +20,22 @@ class Rows:
     def __init__(self, case):
         self.case = case
         self._kept = {}
+        self._natures = {}
 
     def row(self, stand, number):
         """Return the row of a sheet at a stand."""
         key = (stand, number)
         if key not in self._kept:
-            self._kept[key] = row_of(self.case, stand, number)
+            triples = self._natures_at(stand)
+            self._kept[key] = [(nature, right_step(self.case, stand, number, nature)) for nature in triples]
         return self._kept[key]
+
+    def _natures_at(self, stand):
+        # What nature may choose depends on nothing but what it used so far.
+        used = stand[3]
+        if used not in self._natures:
+            self._natures[used] = natures(self.case, stand)
+        return self._natures[used]
 
 
 def walk(rows, start, numbers_at, most):
