@@ -16,6 +16,12 @@ BUILTINS = set(
     "RuntimeError NotImplementedError AttributeError StopIteration NotImplemented".split()
 )
 
+METHODS = set(
+    "append clear copy count endswith extend find get index insert isalnum isalpha isdigit islower isspace isupper items "
+    "join keys ljust lower lstrip partition pop remove replace reverse rfind rjust rpartition rsplit rstrip setdefault "
+    "split splitlines startswith strip update upper values zfill bit_length".split()
+)
+
 
 def trees():
     return [(path.name, ast.parse(path.read_text())) for path in FILES]
@@ -80,6 +86,36 @@ class LanguageTest(unittest.TestCase):
                     for alias in node.names:
                         self.assertIn(alias.name, defined[node.module.split(".")[1] + ".py"], name)
                         self.assertIn(alias.name, used, name)
+
+    def test_methods_and_attributes(self):
+        methods, attributes = set(), set()
+        for node in [node for _, tree in trees() for node in ast.walk(tree)]:
+            if isinstance(node, ast.ClassDef):
+                methods |= {part.name for part in node.body if isinstance(part, ast.FunctionDef)}
+            if isinstance(node, ast.Attribute) and isinstance(node.ctx, ast.Store):
+                attributes.add(node.attr)
+        self.assertEqual(methods & attributes, set())
+        for name, tree in trees():
+            for node in ast.walk(tree):
+                if isinstance(node, ast.Attribute):
+                    self.assertIn(node.attr, METHODS | methods | attributes, name)
+
+    def test_is_stands_beside_none_true_and_false(self):
+        for name, tree in trees():
+            for node in ast.walk(tree):
+                if isinstance(node, ast.Compare):
+                    for sign, right in zip(node.ops, node.comparators):
+                        if isinstance(sign, (ast.Is, ast.IsNot)):
+                            self.assertIn(ast.unparse(right), ("None", "True", "False"), name)
+
+    def test_sets_are_not_kept(self):
+        for name, tree in trees():
+            for node in ast.walk(tree):
+                for part in ast.iter_child_nodes(node):
+                    is_call = isinstance(part, ast.Call) and isinstance(part.func, ast.Name) and part.func.id == "set"
+                    if is_call or isinstance(part, (ast.Set, ast.SetComp)):
+                        self.assertIsInstance(node, ast.Call, name)
+                        self.assertIn(node.func.id, ("sorted", "len"), name)
 
     def test_numbers_and_strings(self):
         for name, tree in trees():
